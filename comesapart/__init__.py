@@ -1,0 +1,1 @@
+"""Comesapart: webs whose places have sides."""

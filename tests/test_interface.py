@@ -1,0 +1,76 @@
+"""The interface: each name stands, with its arguments, in the file under which the document lists it."""
+
+import importlib
+import inspect
+import unittest
+
+FUNCTIONS = {
+    "groups": ["grouped(points, ties)"],
+    "paths": ["turns(web, before, after)", "reversed_steps(steps)", "walk_places(web, start, steps)",
+              "is_path(web, start, steps)", "is_turning_path(web, start, steps)"],
+    "cycles": ["cycle_places(web, steps)", "cusps(web, steps)", "is_turning_cycle(web, steps)", "normal_cycle(steps)"],
+    "webtext": ["format_web(web)", "parse_web(text)"],
+}
+
+CLASSES = {
+    "webs": {"Web(sides, ties)": ["__contains__(self, place)", "__iter__(self)", "__eq__(self, other)",
+                                  "__add__(self, other)", "tail(self, step)", "head(self, step)",
+                                  "steps_from(self, place)", "used_sides(self, place)"]},
+    "pairedwebs": {"PairedWeb(pairs, free)": ["__contains__(self, point)", "__eq__(self, other)"]},
+    "wirings": {"Wiring(links, nodes)": ["__contains__(self, term)", "__eq__(self, other)", "parent(self, term)",
+                                         "leaves_under(self, term)", "link_of(self, leaf)", "mate(self, leaf)"]},
+}
+
+MARKED = {
+    "webs.Web": {"joints": property, "empty": classmethod, "back": staticmethod},
+    "pairedwebs.PairedWeb": {"points": property, "all_ties": property, "partner": staticmethod},
+    "wirings.Wiring": {"leaves": property, "terms": property, "boths": property, "roots": property},
+}
+
+ERRORS = {
+    "errors": ["TooLarge", "BadLine", "UnknownPlace", "BadSides", "UnknownTie", "BadStep", "Repeated", "UnknownPoint",
+               "UnknownPair", "SamePoint", "BadLink", "BadNode", "UnknownTerm", "UnknownSide", "NotATurningCycle",
+               "NoLinks"],
+}
+
+
+def module(name):
+    return importlib.import_module("comesapart." + name)
+
+
+class InterfaceTests(unittest.TestCase):
+    def check(self, owner, home, signature):
+        name = signature.split("(")[0]
+        found = vars(owner)[name]
+        self.assertEqual(home, found.__module__)
+        self.assertEqual(signature, name + str(inspect.signature(found)))
+
+    def test_functions(self):
+        for name, signatures in FUNCTIONS.items():
+            for signature in signatures:
+                self.check(module(name), "comesapart." + name, signature)
+
+    def test_classes_and_methods(self):
+        for name, classes in CLASSES.items():
+            for signature, methods in classes.items():
+                self.check(module(name), "comesapart." + name, signature)
+                for method in methods:
+                    self.check(vars(module(name))[signature.split("(")[0]], "comesapart." + name, method)
+
+    def test_marked_methods(self):
+        for path, methods in MARKED.items():
+            home, name = path.split(".")
+            for method, kind in methods.items():
+                self.assertIsInstance(vars(vars(module(home))[name])[method], kind)
+
+    def test_errors(self):
+        base = module("errors").ComesapartError
+        for name, error_names in ERRORS.items():
+            for error_name in error_names:
+                error_class = vars(module(name))[error_name]
+                self.assertEqual("comesapart." + name, error_class.__module__)
+                self.assertEqual((base,), error_class.__bases__)
+
+
+if __name__ == "__main__":
+    unittest.main()
