@@ -4,6 +4,7 @@ import copy
 import random
 from unittest.mock import ANY
 
+from comesapart.cycles import is_turning_cycle, normal_cycle
 from comesapart.webs import Web
 
 
@@ -30,6 +31,32 @@ def small_webs(count, seed, most_places=6, most_ties=8, most_sides=3):
 def steps_of(web):
     """Return all steps of the web, ascending."""
     return [(tie, direction) for tie in range(len(web.ties)) for direction in (0, 1)]
+
+
+def all_turning_cycles(web):
+    """Return all turning cycles of a small web in normal form, found by trying all cycles."""
+    found = set()
+    chains = [[step] for step in steps_of(web)]
+    while chains:
+        chain = chains.pop()
+        if is_turning_cycle(web, chain):
+            found.add(tuple(normal_cycle(chain)))
+        left = [web.tail(step)[0] for step in chain]
+        here = web.head(chain[-1])[0]
+        if here not in left:
+            chains += [chain + [step] for step in web.steps_from(here)]
+    return sorted(list(cycle) for cycle in found)
+
+
+def chain_of_doubles(links):
+    """Return a web in which each place but the last is a hinge only when the next one has been opened.
+
+    Two ties join each place with the next one, on two sides of the place and on one side of the next one.
+    """
+    ties = []
+    for place in range(links):
+        ties += [(place, 0, place + 1, 2), (place, 1, place + 1, 2)]
+    return Web([3] * links + [3, 1], ties + [(links, 0, links + 1, 0)])
 
 
 class Cases:

@@ -10,6 +10,20 @@ FUNCTIONS = {
               "is_path(web, start, steps)", "is_turning_path(web, start, steps)"],
     "cycles": ["cycle_places(web, steps)", "cusps(web, steps)", "is_turning_cycle(web, steps)", "normal_cycle(steps)"],
     "webtext": ["format_web(web)", "parse_web(text)"],
+    "reshape": ["renumbered(web, *, places=None, ties=None)", "restricted(web, kept)", "detached(web, place)",
+                "leafed(web)", "web_parts(web)"],
+    "listing": ["end_counts(web)", "side_table(web)"],
+    "followers": ["followers(web, step)", "walks(web, first, length)", "reached(web, first)",
+                  "shortest_walk(web, first, last)"],
+    "rings": ["is_ring(web, steps)", "find_ring(web)", "heights(web)"],
+    "facings": ["is_facing(web, directions)", "facing(web)", "tie_groups(web)", "count_facings(web)",
+                "cycle_in_ring(web, ring)"],
+    "zigzags": ["neighbours(web, end)", "is_zigzag(web, ends)", "zigzag(web)"],
+    "hinges": ["groups_without(web, shut, place)", "touched_sides(web, group, place)", "is_hinge(web, shut, place)",
+               "hinges(web, shut)"],
+    "openings": ["opening_order(web)", "knot(web)", "fault_in_order(web, order)", "waves(web)", "openings(web)"],
+    "orders": ["must_precede(web, first, second)", "forerunners(web, place)", "openable_sets(web)",
+               "count_orders(web)"],
 }
 
 CLASSES = {
@@ -31,7 +45,13 @@ ERRORS = {
     "errors": ["TooLarge", "BadLine", "UnknownPlace", "BadSides", "UnknownTie", "BadStep", "Repeated", "UnknownPoint",
                "UnknownPair", "SamePoint", "BadLink", "BadNode", "UnknownTerm", "UnknownSide", "NotATurningCycle",
                "NoLinks"],
+    "reshape": ["NotAPermutation"],
+    "facings": ["NoFacing", "NotARing"],
+    "hinges": ["NotAJoint", "NotShut"],
+    "orders": ["NeverOpened"],
 }
+
+GENERATORS = {"followers": "walks", "openings": "openings"}
 
 
 def module(name):
@@ -62,6 +82,10 @@ class InterfaceTests(unittest.TestCase):
             home, name = path.split(".")
             for method, kind in methods.items():
                 self.assertIsInstance(vars(vars(module(home))[name])[method], kind)
+
+    def test_generators(self):
+        for name, function in GENERATORS.items():
+            self.assertTrue(inspect.isgeneratorfunction(vars(module(name))[function]))
 
     def test_errors(self):
         base = module("errors").ComesapartError
