@@ -92,6 +92,7 @@ class CycleTests(unittest.TestCase, Cases):
         self.assertEqual([], cusps(WEB, steps))
         self.assertTrue(is_turning_cycle(WEB, steps))
         self.assertEqual([(0, 0), (3, 1)], normal_cycle(steps))
+        self.assertEqual([(0, 0), (3, 1)], normal_cycle(((0, 0), (3, 1))))
         self.assert_raises(BadStep, {"step": 0}, cycle_places, WEB, ())
 
     def test_lists_are_new_and_arguments_stay(self):
