@@ -2,6 +2,7 @@
 
 from comesapart.errors import BadStep, Repeated
 from comesapart.paths import is_step, reversed_steps, turns
+from comesapart.webs import Web
 
 
 def cycle_places(web, steps):
@@ -56,3 +57,32 @@ def normal_cycle(steps):
     forward = list(steps) if (lowest, 0) in steps else reversed_steps(steps)
     start = forward.index((lowest, 0))
     return forward[start:] + forward[:start]
+
+
+def cycles_of_ties(web, ties):
+    """Return the cycles of the ties in normal form, ascending; each place has none or two of the ends of the ties."""
+    leaving = {}
+    for tie in ties:
+        for step in ((tie, 0), (tie, 1)):
+            leaving.setdefault(web.tail(step)[0], []).append(step)
+    walked = {}
+    found = []
+    for tie in sorted(ties):
+        if tie not in walked:
+            cycle = cycle_from(web, leaving, (tie, 0))
+            for other, _ in cycle:
+                walked[other] = True
+            found.append(cycle)
+    return found
+
+
+def cycle_from(web, leaving, start):
+    """Return the cycle from the start on, where two steps leave each place."""
+    cycle = [start]
+    while True:
+        entry = Web.back(cycle[-1])
+        one, other = leaving[web.tail(entry)[0]]
+        after = other if one == entry else one
+        if after == start:
+            return cycle
+        cycle.append(after)

@@ -1,10 +1,13 @@
 """What several test files need."""
 
 import copy
+import itertools
 import random
 from unittest.mock import ANY
 
 from comesapart.cycles import is_turning_cycle, normal_cycle
+from comesapart.groups import grouped
+from comesapart.pairedwebs import PairedWeb
 from comesapart.webs import Web
 
 
@@ -57,6 +60,68 @@ def chain_of_doubles(links):
     for place in range(links):
         ties += [(place, 0, place + 1, 2), (place, 1, place + 1, 2)]
     return Web([3] * links + [3, 1], ties + [(links, 0, links + 1, 0)])
+
+
+def random_paired(rng, pairs, free):
+    """Return a random paired web; loops, equal ties and ties of partners occur."""
+    return PairedWeb(pairs, [(rng.randrange(2 * pairs), rng.randrange(2 * pairs)) for _ in range(free if pairs else 0)])
+
+
+def small_paired(count, seed, most_pairs=4, most_free=7):
+    """Return random small paired webs, the same in each run."""
+    rng = random.Random(seed)
+    return [random_paired(rng, rng.randint(0, most_pairs), rng.randint(0, most_free)) for _ in range(count)]
+
+
+def odd_ears(pairs, seed):
+    """Return a paired web of odd cycles that lie inside of odd cycles.
+
+    Its points but 0 have a pairing without any one of them: pair by pair, two points are put as an odd chain between
+    two of the points 1 and up that are there already.
+    """
+    rng = random.Random(seed)
+    free = []
+    for pair in range(1, pairs):
+        free += [(rng.randrange(1, 2 * pair), 2 * pair), (2 * pair + 1, rng.randrange(1, 2 * pair))]
+    rng.shuffle(free)
+    return PairedWeb(pairs, free)
+
+
+def small_graphs(count, seed, most_points=7, most_ties=9):
+    """Return random small graphs (points, ties) in which foreign ends, loops and equal ties occur."""
+    rng = random.Random(seed)
+    graphs = []
+    for _ in range(count):
+        points = rng.sample(range(-2, 8), rng.randint(0, most_points))
+        graphs.append((points, [(rng.randint(-2, 7), rng.randint(-2, 7)) for _ in range(rng.randint(0, most_ties))]))
+    return graphs
+
+
+def fits(points, ties, chosen):
+    """Tell whether no point is an end of two of the chosen ties, and all of their ends are points."""
+    ends = [end for tie in chosen for end in ties[tie]]
+    return len(set(ends)) == len(ends) and set(ends) <= set(points)
+
+
+def all_pairings(points, ties):
+    """Return all pairings of a small graph, found by trying all lists of ties of the right length."""
+    if len(points) % 2:
+        return []
+    return [list(chosen) for chosen in itertools.combinations(range(len(ties)), len(points) // 2)
+            if fits(points, ties, chosen)]
+
+
+def count_uncovered(points, ties):
+    """Return how many points a greatest partial pairing of a small graph leaves uncovered, by trying all of them."""
+    for count in range(len(points) // 2, -1, -1):
+        if any(fits(points, ties, chosen) for chosen in itertools.combinations(range(len(ties)), count)):
+            return len(points) - 2 * count
+
+
+def odd_groups_without(points, ties, removed):
+    """Return the number of odd pieces of the graph without the removed points."""
+    rest = [point for point in points if point not in removed]
+    return len([group for group in grouped(rest, ties) if len(group) % 2])
 
 
 class Cases:

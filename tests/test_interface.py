@@ -24,6 +24,20 @@ FUNCTIONS = {
     "openings": ["opening_order(web)", "knot(web)", "fault_in_order(web, order)", "waves(web)", "openings(web)"],
     "orders": ["must_precede(web, first, second)", "forerunners(web, place)", "openable_sets(web)",
                "count_orders(web)"],
+    "search": ["turning_cycles(web)", "cycle_by_dropping(web)", "verdict(web)"],
+    "pairings": ["pairings(points, ties)", "is_pairing(points, ties, chosen)", "tie_uses(paired)"],
+    "alternating": ["web_of_pairs(paired)", "alternating_cycles(paired)", "changed_along(chosen, steps)",
+                    "parting_cycles(paired, chosen)"],
+    "bridges": ["is_bridge(paired, taken, pair)", "bridge_order(paired)", "core(paired)", "is_only_pairing(paired)",
+                "fault_in_bridges(paired, order)", "bridges_of_openings(paired, order)",
+                "openings_of_bridges(paired, order)"],
+    "gadgets": ["paired_of_web(web)", "point_at(web, place, side)", "pair_at(web, place)", "lead_in(web, steps)",
+                "lead_out(web, steps)"],
+    "greatest": ["greatest_pairing(points, ties)"],
+    "barriers": ["odd_pieces(points, ties)", "barrier(points, ties)", "bars(points, ties, removed)"],
+    "detours": ["is_strict_path(paired, first, last, steps)", "strict_path(paired, first, last)",
+                "strict_paths(paired, first, last)", "pairings_without(paired, first, last)",
+                "path_of_pairing(paired, first, last, chosen)"],
 }
 
 CLASSES = {
@@ -49,6 +63,7 @@ ERRORS = {
     "facings": ["NoFacing", "NotARing"],
     "hinges": ["NotAJoint", "NotShut"],
     "orders": ["NeverOpened"],
+    "alternating": ["NotAPairing"],
 }
 
 GENERATORS = {"followers": "walks", "openings": "openings"}
