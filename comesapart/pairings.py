@@ -2,6 +2,7 @@
 
 from comesapart.couples import first_mates, greatest_mates, mates_after, mates_without
 from comesapart.groups import neighbour_lists
+from comesapart.pairedwebs import PairedWeb
 
 
 def ties_at_points(points, ties):
@@ -50,6 +51,16 @@ def is_pairing(points, ties, chosen):
 def mates_of_pairs(paired):
     """Return the mates that the pairs make of all points."""
     return {point: paired.partner(point) for point in range(paired.points)}
+
+
+def mates_from_pairs(points, ties, left_out):
+    """Return the mates of a greatest pairing of points of a paired web; all pairs but one are among the ties."""
+    around = neighbour_lists(points, ties)
+    mates = {}
+    for point in points:
+        partner = PairedWeb.partner(point)
+        mates[point] = partner if partner in around and point // 2 != left_out else None
+    return greatest_mates(around, mates)
 
 
 def tie_uses(paired):

@@ -9,6 +9,7 @@ from comesapart.cycles import is_turning_cycle, normal_cycle
 from comesapart.groups import grouped
 from comesapart.pairedwebs import PairedWeb
 from comesapart.webs import Web
+from comesapart.wirings import Wiring
 
 
 def random_web(rng, places, ties, most_sides=3):
@@ -122,6 +123,51 @@ def odd_groups_without(points, ties, removed):
     """Return the number of odd pieces of the graph without the removed points."""
     rest = [point for point in points if point not in removed]
     return len([group for group in grouped(rest, ties) if len(group) % 2])
+
+
+def random_links(rng, links):
+    leaves = list(range(2 * links))
+    rng.shuffle(leaves)
+    return [(leaves[2 * link], leaves[2 * link + 1]) for link in range(links)]
+
+
+def random_wiring(rng, links, nodes):
+    """Return a random wiring with this number of links and at most this number of nodes."""
+    free, made = list(range(2 * links)), []
+    while len(free) > 1 and len(made) < nodes:
+        left, right = rng.sample(free, 2)
+        free = [term for term in free if term not in (left, right)] + [2 * links + len(made)]
+        made.append((rng.choice(["both", "together"]), left, right))
+    return Wiring(random_links(rng, links), made)
+
+
+def small_wirings(count, seed, most_links=5, most_nodes=8):
+    """Return random small wirings, the same in each run; some are sound and some are not."""
+    rng = random.Random(seed)
+    return [random_wiring(rng, rng.randint(1, most_links), rng.randint(0, most_nodes)) for _ in range(count)]
+
+
+def sound_wiring(seed, links, boths):
+    """Return a wiring with a derivation: boths join random pieces, then togethers join random roots of a piece."""
+    rng = random.Random(seed)
+    made = []
+    pieces = [list(link) for link in random_links(rng, links)]
+    links_of_pieces = [tuple(piece) for piece in pieces]
+    while len(pieces) > links - boths:
+        one, other = rng.sample(pieces, 2)
+        left, right = rng.choice(one), rng.choice(other)
+        pieces = [piece for piece in pieces if piece not in (one, other)]
+        pieces.append([term for term in one + other if term not in (left, right)] + [2 * links + len(made)])
+        made.append(("both", left, right))
+        if rng.random() < 0.5 or len(pieces) == links - boths:
+            piece = rng.choice(pieces)
+            while len(piece) > 1 and rng.random() < 0.7:
+                left, right = rng.sample(piece, 2)
+                piece.remove(left)
+                piece.remove(right)
+                piece.append(2 * links + len(made))
+                made.append(("together", left, right))
+    return Wiring(links_of_pieces, made)
 
 
 class Cases:

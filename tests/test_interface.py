@@ -38,6 +38,18 @@ FUNCTIONS = {
     "detours": ["is_strict_path(paired, first, last, steps)", "strict_path(paired, first, last)",
                 "strict_paths(paired, first, last)", "pairings_without(paired, first, last)",
                 "path_of_pairing(paired, first, last, chosen)"],
+    "through": ["place_graph(web, place)", "tie_graph(web, tie)", "cycle_through_place(web, place)",
+                "cycle_through_tie(web, tie)", "on_cycles(web)"],
+    "pfaffians": ["entry(paired, i, j)", "crossing_sign(ties)", "pfaffian(paired, points)",
+                  "pairing_sum(paired, points)", "determinant(paired, points)"],
+    "sinking": ["sinking_weights(paired)"],
+    "inverses": ["inverse_entry(paired, i, j)", "never_zero(paired, i, j)", "path_products(paired, i, j)"],
+    "pivots": ["pivot(paired, before, pair)", "is_kept(paired, before, pair)", "touching_order(paired)",
+               "worked_off(paired, weights, order)"],
+    "wiringwebs": ["web_of_wiring(wiring)", "place_of(wiring, term)", "is_sound(wiring)", "is_whole(wiring)"],
+    "settings": ["settings(wiring)", "kept_ties(wiring, setting)", "groups_under(wiring, setting)",
+                 "ring_under(wiring, setting)", "setting_of(wiring, steps)"],
+    "derivations": ["fault_in_derivation(wiring, steps)", "find_derivation(wiring)", "opening_of(wiring, steps)"],
 }
 
 CLASSES = {
@@ -47,12 +59,16 @@ CLASSES = {
     "pairedwebs": {"PairedWeb(pairs, free)": ["__contains__(self, point)", "__eq__(self, other)"]},
     "wirings": {"Wiring(links, nodes)": ["__contains__(self, term)", "__eq__(self, other)", "parent(self, term)",
                                          "leaves_under(self, term)", "link_of(self, leaf)", "mate(self, leaf)"]},
+    "sums": {"Sum(products)": ["__add__(self, other)", "__sub__(self, other)", "__mul__(self, other)",
+                               "__rmul__(self, other)", "__neg__(self)", "__eq__(self, other)", "__bool__(self)",
+                               "value(self, numbers)", "used(self)", "put(self, tie, number)", "divided(self, tie)"]},
 }
 
 MARKED = {
     "webs.Web": {"joints": property, "empty": classmethod, "back": staticmethod},
     "pairedwebs.PairedWeb": {"points": property, "all_ties": property, "partner": staticmethod},
     "wirings.Wiring": {"leaves": property, "terms": property, "boths": property, "roots": property},
+    "sums.Sum": {"products": property, "number": classmethod, "weight": classmethod},
 }
 
 ERRORS = {
@@ -64,9 +80,10 @@ ERRORS = {
     "hinges": ["NotAJoint", "NotShut"],
     "orders": ["NeverOpened"],
     "alternating": ["NotAPairing"],
+    "settings": ["BadSetting"],
 }
 
-GENERATORS = {"followers": "walks", "openings": "openings"}
+GENERATORS = {"followers": "walks", "openings": "openings", "settings": "settings"}
 
 
 def module(name):
