@@ -9,7 +9,8 @@ import unittest
 FOLDER = os.path.join(os.path.dirname(os.path.dirname(os.path.abspath(__file__))), "comesapart")
 
 BUILTINS = set("""len range enumerate zip min max sum abs sorted reversed int str bool list tuple dict set isinstance
-    ord repr any all divmod iter next property staticmethod classmethod super NotImplemented ValueError KeyError""".split())
+    ord repr any all divmod iter next property staticmethod classmethod super NotImplemented ValueError
+    KeyError""".split())
 METHODS = set("""append clear copy count endswith extend find get index insert isalnum isalpha isdigit islower isspace
     isupper items join keys ljust lower lstrip partition pop remove replace reverse rfind rjust rpartition rsplit rstrip
     setdefault split splitlines startswith strip update upper values zfill bit_length title capitalize swapcase casefold
@@ -189,12 +190,12 @@ class LanguageTests(unittest.TestCase):
                 self.assertRegex(ast.unparse(node.exc.func), "^[A-Z]", name)
 
     def test_iterators_are_not_stored(self):
+        barred = {"zip", "enumerate", "reversed"} | generators()
         for name, node in NODES:
             if isinstance(node, (ast.Assign, ast.Return)) and isinstance(node.value, ast.Call):
                 called = ast.unparse(node.value.func)
-                if called == "iter":
-                    continue
-                self.assertNotIn(called, {"zip", "enumerate", "reversed"} | generators(), f"{name}:{node.lineno}")
+                if called != "iter":
+                    self.assertNotIn(called, barred, f"{name}:{node.lineno}")
 
     def test_sets_are_not_iterated(self):
         for name, node in NODES:

@@ -64,8 +64,8 @@ class EntryTests(unittest.TestCase, Cases):
 
 class CrossingSignTests(unittest.TestCase):
     def test_crossings(self):
-        for ties, sign in (([], 1), ([(0, 1)], 1), ([(0, 2), (1, 3)], -1), ([(2, 0), (3, 1)], -1), ([(0, 3), (1, 2)], 1),
-                           ([(0, 1), (2, 3)], 1), ([(0, 3), (1, 4), (2, 5)], -1), ([(5, 1), (0, 2), (4, 3)], -1),
+        for ties, sign in (([], 1), ([(0, 1)], 1), ([(0, 2), (1, 3)], -1), ([(2, 0), (3, 1)], -1),
+                           ([(0, 3), (1, 2)], 1), ([(0, 1), (2, 3)], 1), ([(0, 3), (1, 4), (2, 5)], -1), ([(5, 1), (0, 2), (4, 3)], -1),
                            ([(0, 2), (5, 3), (4, 1)], 1), ([(-9, 10 ** 20), (0, 10 ** 21)], -1)):
             self.assertEqual(sign, crossing_sign(ties))
             self.assertEqual(sign, crossing_sign(tuple(ties[::-1])))

@@ -62,6 +62,14 @@ class SinkingTests(unittest.TestCase, Cases):
                 self.check(paired, weights)
                 self.assertEqual(0, pfaffian(paired, list(range(paired.points))).value(weights))
 
+    def test_light_ties_that_cancel_heavy_ones(self):
+        # Weights of 1 and 2 make the part of the Pfaffian without, or with, the last tie 0.
+        for paired in (PairedWeb(2, [(0, 2), (0, 2), (1, 3), (1, 3), (1, 2), (0, 3)]),
+                       PairedWeb(3, [(1, 3), (1, 3), (2, 4), (2, 4), (1, 2), (3, 4), (0, 5)])):
+            weights = sinking_weights(paired)
+            self.check(paired, weights)
+            self.assertEqual(0, pfaffian(paired, list(range(paired.points))).value(weights))
+
     def test_several_cycles_that_could_cancel(self):
         # All points of a complete graph: very many products, of which many are equal for equal weights.
         points = range(8)

@@ -124,7 +124,8 @@ class PartsTests(unittest.TestCase, Cases):
     def test_divided(self):
         self.assertEqual((Sum([(2, [1])]), Sum([(-3, [4])])), A.divided(0))
         self.assertEqual((Sum([]), A), A.divided(7))
-        self.assertEqual((Sum([(5, [0]), (2, [1])]), Sum.number(3)), Sum([(5, [0, 0]), (2, [0, 1]), (3, [])]).divided(0))
+        self.assertEqual((Sum([(5, [0]), (2, [1])]), Sum.number(3)),
+                         Sum([(5, [0, 0]), (2, [0, 1]), (3, [])]).divided(0))
 
     def test_parts_of_random_sums(self):
         rng = random.Random(55)

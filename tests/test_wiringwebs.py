@@ -24,14 +24,16 @@ class WebTests(unittest.TestCase, Cases):
         self.assertEqual((2, 2, 2, 2, 3), web.sides)
         self.assertEqual(((1, 1, 3, 0), (0, 1, 3, 0), (3, 1, 4, 0), (2, 1, 4, 1)), web.ties)
         boths = web_of_wiring(Wiring([(0, 1), (2, 3)], [("both", 1, 2), ("both", 4, 0), ("together", 3, 5)]))
-        self.assertEqual(((0, 1, 2, 0), (1, 0, 2, 1), (2, 2, 3, 0), (0, 0, 3, 1), (1, 1, 4, 0), (3, 2, 4, 0)), boths.ties)
+        self.assertEqual(((0, 1, 2, 0), (1, 0, 2, 1), (2, 2, 3, 0), (0, 0, 3, 1), (1, 1, 4, 0), (3, 2, 4, 0)),
+                         boths.ties)
 
     def test_a_wiring_without_nodes(self):
         web = web_of_wiring(Wiring([(1, 0)], []))
         self.assertEqual(((2,), ()), (web.sides, web.ties))
 
     def test_place_of(self):
-        self.assertEqual([(0, 0), (1, 1), (0, 1), (1, 0), (2, 1), (3, 2)], [place_of(EXAMPLE, term) for term in range(6)])
+        self.assertEqual([(0, 0), (1, 1), (0, 1), (1, 0), (2, 1), (3, 2)],
+                         [place_of(EXAMPLE, term) for term in range(6)])
         self.assertEqual([(0, 1), (1, 0), (1, 1), (2, 0), (0, 0), (2, 1), (3, 1), (4, 2)],
                          [place_of(HIGH, term) for term in range(8)])
 
@@ -77,8 +79,9 @@ class SoundTests(unittest.TestCase):
 
     def test_wirings_of_40_links(self):
         for seed in range(5):
-            self.assertEqual((True, True), (is_sound(sound_wiring(seed, 40, 39)), is_whole(sound_wiring(seed, 40, 39))))
-            self.assertEqual((True, False), (is_sound(sound_wiring(seed, 40, 30)), is_whole(sound_wiring(seed, 40, 30))))
+            for boths in (0, 30, 39):
+                wiring = sound_wiring(seed, 40, boths)
+                self.assertEqual((True, boths == 39), (is_sound(wiring), is_whole(wiring)))
         ring = Wiring([(2 * link, 2 * link + 1) for link in range(40)],
                       [("both", 2 * link + 1, (2 * link + 2) % 80) for link in range(40)])
         self.assertEqual((False, False), (is_sound(ring), is_whole(ring)))
