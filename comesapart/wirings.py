@@ -5,8 +5,8 @@ from comesapart.errors import BadLink, BadNode, NoLinks, TooLarge, UnknownTerm
 KINDS = ("both", "together")
 
 
-def check_links(links):
-    """Raise an error if there are too few or too many links, or if one is wrong."""
+def check_links(links, leaves):
+    """Raise an error if there are too few or too many links, or if one is wrong; leaves is the number of leaves."""
     if len(links) == 0:
         raise NoLinks("there is no link")
     if len(links) > Wiring.MOST_LINKS:
@@ -14,7 +14,7 @@ def check_links(links):
     linked = {}
     for index, link in enumerate(links):
         for leaf in link:
-            if leaf not in range(2 * len(links)) or leaf in linked:
+            if leaf not in range(leaves) or leaf in linked:
                 raise BadLink(index)
             linked[leaf] = True
 
@@ -56,7 +56,7 @@ class Wiring:
     def __init__(self, links, nodes):
         self.links = tuple([tuple(link) for link in links])
         self.nodes = tuple([tuple(node) for node in nodes])
-        check_links(self.links)
+        check_links(self.links, self.leaves)
         check_nodes(self.leaves, self.nodes)
         self._parents = parents_of_terms(self.leaves, self.nodes)
         self._under = leaves_of_terms(self.leaves, self.nodes)

@@ -170,6 +170,59 @@ def sound_wiring(seed, links, boths):
     return Wiring(links_of_pieces, made)
 
 
+def opposite_word(kind):
+    return {"both": "together", "together": "both"}[kind]
+
+
+def cut_wiring(rng, trees, links):
+    """Return a random wiring and cuts of it: this number of trees and their opposites, and other roots.
+
+    The wiring has at least the leaves of the trees, and it has more if the number of links asks for it.
+    """
+    shapes = [random_tree(rng, rng.randint(1, 3)) for _ in range(trees)]
+    count = 2 * max(links, sum(count_leaves(shape) for shape in shapes) + rng.randint(0, 1))
+    count = max(count, 2)
+    free, made, cuts = list(range(count)), [], []
+    rng.shuffle(free)
+    for shape in shapes:
+        one = add_tree(shape, free, made, count, lambda kind: kind)
+        other = add_tree(shape, free, made, count, opposite_word)
+        cuts.append((one, other) if rng.random() < 0.5 else (other, one))
+    while len(free) > 1 and rng.random() < 0.8:
+        left, right = rng.sample(free, 2)
+        free = [term for term in free if term not in (left, right)] + [count + len(made)]
+        made.append((rng.choice(["both", "together"]), left, right))
+    return Wiring(random_links(rng, count // 2), made), cuts
+
+
+def random_tree(rng, leaves):
+    """Return a tree of kinds: None for a leaf, otherwise a tuple of a kind and two trees."""
+    if leaves == 1:
+        return None
+    left = rng.randint(1, leaves - 1)
+    return (rng.choice(["both", "together"]), random_tree(rng, left), random_tree(rng, leaves - left))
+
+
+def count_leaves(tree):
+    return 1 if tree is None else count_leaves(tree[1]) + count_leaves(tree[2])
+
+
+def add_tree(tree, free, made, leaves, word):
+    """Add the nodes of the tree over free leaves; return its term."""
+    if tree is None:
+        return free.pop()
+    left = add_tree(tree[1], free, made, leaves, word)
+    right = add_tree(tree[2], free, made, leaves, word)
+    made.append((word(tree[0]), left, right))
+    return leaves + len(made) - 1
+
+
+def small_cut_wirings(count, seed, most_trees=3, most_links=5):
+    """Return random small wirings with cuts, the same in each run."""
+    rng = random.Random(seed)
+    return [cut_wiring(rng, rng.randint(0, most_trees), rng.randint(1, most_links)) for _ in range(count)]
+
+
 class Cases:
     """Assertions that several test cases share."""
 

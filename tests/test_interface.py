@@ -50,6 +50,19 @@ FUNCTIONS = {
     "settings": ["settings(wiring)", "kept_ties(wiring, setting)", "groups_under(wiring, setting)",
                  "ring_under(wiring, setting)", "setting_of(wiring, steps)"],
     "derivations": ["fault_in_derivation(wiring, steps)", "find_derivation(wiring)", "opening_of(wiring, steps)"],
+    "exchanges": ["exchanges(first, second)", "node_orders(wiring)"],
+    "moves": ["both_pairs(wiring)", "heap_pairs(links)", "moved(leaves, pairs, move)", "moves_of(wiring, steps)",
+              "wiring_of_pairs(links, pairs)"],
+    "wiringtext": ["format_wiring(wiring)", "parse_wiring(text)"],
+    "joining": ["are_opposite(wiring, one, other)", "first_state(wiring, cuts)", "is_locked(state, cut)",
+                "open_cuts(state)", "next_state(wiring, state, cut)", "last_state(wiring, cuts, picks)",
+                "joined(wiring, cuts)", "web_of_state(wiring, state)"],
+    "trails": ["opposite_leaf(wiring, cuts, leaf)", "trail(wiring, cuts, leaf)", "trail_links(wiring, cuts)",
+               "closed_trails(wiring, cuts)"],
+    "statuses": ["statuses(wiring, signs)", "roots_agree(wiring, signs)", "parting_signs(wiring)",
+                 "signs_of(wiring, likeness, choice, other)", "agree(wiring, likeness, choice, other)"],
+    "parting": ["shortened(wiring, steps)", "signs_of_cycle(wiring, steps)", "parting_choices(wiring)",
+                "results(wiring, size)"],
 }
 
 CLASSES = {
@@ -62,6 +75,7 @@ CLASSES = {
     "sums": {"Sum(products)": ["__add__(self, other)", "__sub__(self, other)", "__mul__(self, other)",
                                "__rmul__(self, other)", "__neg__(self)", "__eq__(self, other)", "__bool__(self)",
                                "value(self, numbers)", "used(self)", "put(self, tie, number)", "divided(self, tie)"]},
+    "likeness": {"Likeness(size, like)": ["__call__(self, one, other)", "__invert__(self)", "__eq__(self, other)"]},
 }
 
 MARKED = {
@@ -69,6 +83,7 @@ MARKED = {
     "pairedwebs.PairedWeb": {"points": property, "all_ties": property, "partner": staticmethod},
     "wirings.Wiring": {"leaves": property, "terms": property, "boths": property, "roots": property},
     "sums.Sum": {"products": property, "number": classmethod, "weight": classmethod},
+    "likeness.Likeness": {"like_pairs": property, "three": classmethod},
 }
 
 ERRORS = {
@@ -81,6 +96,11 @@ ERRORS = {
     "orders": ["NeverOpened"],
     "alternating": ["NotAPairing"],
     "settings": ["BadSetting"],
+    "exchanges": ["NotSameSteps"],
+    "moves": ["BadMove", "NoTerm"],
+    "joining": ["BadCut", "Locked", "NoSuchCut", "Nothing"],
+    "trails": ["NotOuter"],
+    "statuses": ["BadSigns", "BadChoice"],
 }
 
 GENERATORS = {"followers": "walks", "openings": "openings", "settings": "settings"}

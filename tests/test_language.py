@@ -97,6 +97,7 @@ class LanguageTests(unittest.TestCase):
                 self.assertRegex(node.module, r"^comesapart\.[a-z]+$")
                 there = TREES[node.module.split(".")[1] + ".py"].body
                 defined = [item.name for item in there if isinstance(item, (ast.FunctionDef, ast.ClassDef))]
+                defined += [item.targets[0].id for item in there if isinstance(item, ast.Assign)]
                 for alias in node.names:
                     self.assertIsNone(alias.asname)
                     self.assertIn(alias.name, defined)
