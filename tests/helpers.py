@@ -223,6 +223,92 @@ def small_cut_wirings(count, seed, most_trees=3, most_links=5):
     return [cut_wiring(rng, rng.randint(0, most_trees), rng.randint(1, most_links)) for _ in range(count)]
 
 
+def random_shape(rng, letters, names="ab", words=("both", "together")):
+    """Return a random shape with this number of letters."""
+    if letters == 1:
+        return ("letter", rng.choice(names), rng.random() < 0.5)
+    left = rng.randint(1, letters - 1)
+    return (rng.choice(words), random_shape(rng, left, names, words), random_shape(rng, letters - left, names, words))
+
+
+def all_programs(funs, free=()):
+    """Yield all programs with this number of funs in which each of the free names is used once, with plain names.
+
+    The names of the funs are those behind the free names in the alphabet, in reading order.
+    """
+    for tree in program_trees(funs, len(free)):
+        for order in itertools.permutations(range(len(free) + funs)):
+            program = filled_program(tree, list(order), list(free), len(free))
+            if program is not None:
+                yield program
+
+
+def program_trees(funs, names):
+    """Yield programs without names: None for a name, (part,) for a fun and (part, part) for a use."""
+    if funs == 0 and names == 1:
+        yield None
+    if funs > 0:
+        for body in program_trees(funs - 1, names + 1):
+            yield (body,)
+    for left_funs in range(funs + 1):
+        for left_names in range(names + 1):
+            if 0 < left_funs + left_names < funs + names:
+                for left in program_trees(left_funs, left_names):
+                    for right in program_trees(funs - left_funs, names - left_names):
+                        yield (left, right)
+
+
+def filled_program(tree, order, around, bound):
+    """Return the program of the tree whose names stand in this order from left to right, or None if one is not bound.
+
+    The order is emptied; around has the names that are bound around the tree, bound counts those that were bound.
+    """
+    state = [bound]
+
+    def fill(part, names):
+        if part is None:
+            name = PLAIN[order.pop(0)]
+            return ("name", name) if name in names else None
+        if len(part) == 1:
+            name = PLAIN[state[0]]
+            state[0] += 1
+            body = fill(part[0], names + [name])
+            return None if body is None else ("fun", name, body)
+        function = fill(part[0], names)
+        argument = None if function is None else fill(part[1], names)
+        return None if argument is None else ("use", function, argument)
+
+    return fill(tree, around)
+
+
+PLAIN = "abcdefghijklmnopqrstuvwxyz"
+
+
+def small_programs(most_funs=3):
+    """Return all programs without free names that have up to this number of funs."""
+    return [program for funs in range(1, most_funs + 1) for program in all_programs(funs)]
+
+
+def random_program(rng, funs):
+    """Return a random program with this number of funs and without free names."""
+    counter = itertools.count()
+
+    def make(count, free):
+        if count == 0 and len(free) == 1:
+            return ("name", free[0])
+        weight = count + len(free)
+        if count > 0 and (weight == 1 or rng.random() < 0.5):
+            name = "n" + PLAIN[next(counter)]
+            return ("fun", name, make(count - 1, free + [name]))
+        items = ["fun"] * count + free
+        rng.shuffle(items)
+        at = rng.randint(1, weight - 1)
+        left, right = items[:at], items[at:]
+        return ("use", *[make(part.count("fun"), [name for name in part if name != "fun"]) for part in (left, right)])
+
+    return make(funs, [])
+
+
 class Cases:
     """Assertions that several test cases share."""
 

@@ -2,6 +2,7 @@
 
 import importlib
 import inspect
+import os
 import unittest
 
 FUNCTIONS = {
@@ -63,6 +64,16 @@ FUNCTIONS = {
                  "signs_of(wiring, likeness, choice, other)", "agree(wiring, likeness, choice, other)"],
     "parting": ["shortened(wiring, steps)", "signs_of_cycle(wiring, steps)", "parting_choices(wiring)",
                 "results(wiring, size)"],
+    "kinds": ["is_arrow(kind)", "alike(one, other)"],
+    "kindtext": ["format_kind(kind)", "parse_kind(text)"],
+    "standing": ["wiring_of_kinds(kinds, links)", "all_links(kinds)", "standings(one, other)",
+                 "barring_cycle(one, other, links)", "can_stand_for(one, other, *, beside=False)", "plain_links(kind)",
+                 "composed(one, middle, other, there, onward)", "there_and_back(one, other)"],
+    "programs": ["check_program(program)", "format_program(program)", "parse_program(text)", "redexes(program)",
+                 "step_at(program, position)", "worked(program, picks)", "plainly_named(program)"],
+    "principal": ["principal_kind(program)"],
+    "programwirings": ["forced_links(kind)", "program_of_kind(kind)", "application(function, argument)"],
+    "reports": ["desk_table(desk)"],
 }
 
 CLASSES = {
@@ -76,6 +87,12 @@ CLASSES = {
                                "__rmul__(self, other)", "__neg__(self)", "__eq__(self, other)", "__bool__(self)",
                                "value(self, numbers)", "used(self)", "put(self, tie, number)", "divided(self, tie)"]},
     "likeness": {"Likeness(size, like)": ["__call__(self, one, other)", "__invert__(self)", "__eq__(self, other)"]},
+    "kinds": {"Kind(shape)": ["__invert__(self)", "__and__(self, other)", "__or__(self, other)",
+                              "__rshift__(self, other)", "__eq__(self, other)"]},
+    "desk": {"Desk()": ["add_place(self, name, sides=2)", "add_tie(self, name, one, side, other, far_side)",
+                        "cut_tie(self, name)", "remove_place(self, name)", "undo(self)", "redo(self)",
+                        "obey(self, line, number=1)", "obey_all(self, lines)", "fault(self, names)", "verdict(self)"],
+             "Batch(desk)": ["__enter__(self)", "__exit__(self, kind, value, trace)"]},
 }
 
 MARKED = {
@@ -84,6 +101,17 @@ MARKED = {
     "wirings.Wiring": {"leaves": property, "terms": property, "boths": property, "roots": property},
     "sums.Sum": {"products": property, "number": classmethod, "weight": classmethod},
     "likeness.Likeness": {"like_pairs": property, "three": classmethod},
+    "kinds.Kind": {"letters": property, "letter": classmethod},
+    "desk.Desk": {"replay": classmethod, "web": property, "place_names": property, "tie_names": property,
+                  "order": property, "renewed": property, "journal": property},
+}
+
+VALUES = {
+    "webs.Web": {"MOST_PLACES": 200, "MOST_TIES": 300, "MOST_SIDES": 4},
+    "pairedwebs.PairedWeb": {"MOST_PAIRS": 100, "MOST_FREE": 200},
+    "wirings.Wiring": {"MOST_LINKS": 40},
+    "likeness.Likeness": {"MOST_POINTS": 8},
+    "kinds.Kind": {"MOST_LETTERS": 40},
 }
 
 ERRORS = {
@@ -101,6 +129,19 @@ ERRORS = {
     "joining": ["BadCut", "Locked", "NoSuchCut", "Nothing"],
     "trails": ["NotOuter"],
     "statuses": ["BadSigns", "BadChoice"],
+    "kinds": ["BadName"],
+    "kindtext": ["BadSign"],
+    "programs": ["BoundTwice", "UnknownName", "UsedTwice", "NotUsed", "NotARedex"],
+    "programwirings": ["NotBalanced", "NotAnArrow"],
+    "editions": ["BadLabel", "NameTaken", "NoSuchName", "StillTied"],
+    "desk": ["NothingToUndo", "NothingToRedo"],
+}
+
+# The fields of the errors that are not in errors.py; all others have none.
+FIELDS = {
+    "NotAJoint": "place", "NotShut": "place", "NeverOpened": "place", "BadCut": "cut", "Locked": "cut", "BadName": "name",
+    "BadSign": "sign", "BoundTwice": "name", "UnknownName": "name", "UsedTwice": "name", "NotUsed": "name",
+    "NotARedex": "position", "BadLabel": "name", "NameTaken": "name", "NoSuchName": "name", "StillTied": "name",
 }
 
 GENERATORS = {"followers": "walks", "openings": "openings", "settings": "settings"}
@@ -135,6 +176,12 @@ class InterfaceTests(unittest.TestCase):
             for method, kind in methods.items():
                 self.assertIsInstance(vars(vars(module(home))[name])[method], kind)
 
+    def test_class_values(self):
+        for path, values in VALUES.items():
+            home, name = path.split(".")
+            for value_name, value in values.items():
+                self.assertEqual(value, vars(vars(module(home))[name])[value_name])
+
     def test_generators(self):
         for name, function in GENERATORS.items():
             self.assertTrue(inspect.isgeneratorfunction(vars(module(name))[function]))
@@ -146,6 +193,26 @@ class InterfaceTests(unittest.TestCase):
                 error_class = vars(module(name))[error_name]
                 self.assertEqual("comesapart." + name, error_class.__module__)
                 self.assertEqual((base,), error_class.__bases__)
+
+    def test_fields_of_errors(self):
+        for name, error_names in ERRORS.items():
+            for error_name in error_names:
+                error_class = vars(module(name))[error_name]
+                if name != "errors" and error_name in FIELDS:
+                    field = FIELDS[error_name]
+                    self.assertEqual({field: "value"}, vars(error_class("value")))
+                    self.assertEqual({field: (1, 2)}, vars(error_class(**{field: (1, 2)})))
+                elif name != "errors":
+                    self.assertEqual({}, vars(error_class()))
+
+    def test_no_error_is_left_out(self):
+        base = module("errors").ComesapartError
+        for path in os.listdir(os.path.dirname(module("errors").__file__)):
+            name = path[:-3]
+            if path.endswith(".py") and name != "__init__":
+                own = [key for key, value in vars(module(name)).items() if isinstance(value, type)
+                       and issubclass(value, base) and value is not base and value.__module__ == "comesapart." + name]
+                self.assertEqual(sorted(own), sorted(ERRORS.get(name, [])), name)
 
 
 if __name__ == "__main__":
