@@ -139,9 +139,8 @@ def number_in(word, line):
 
 def end_in(word, line):
     """Return the name of the place and the side that the word of the line writes."""
-    name, colon, side = word.partition(":")
-    if colon == "":
-        raise BadLine(line)
+    name, _, side = word.partition(":")
+    # Without a colon the side is empty, and so it is no number.
     return (name, number_in(side, line))
 
 

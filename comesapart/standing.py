@@ -130,9 +130,6 @@ def composed(one, middle, other, there, onward):
 
 def there_and_back(one, other):
     """Return all tuples of links there and links back that are not barred and whose composed links are plain."""
-    check_count([one, other])
-    if len(one.letters) != len(other.letters):
-        return []
     found = []
     for there in all_links([~one, other]):
         back = back_links(one, there)
@@ -151,5 +148,5 @@ def back_links(one, there):
     count = len(one.letters)
     if any([(first < count) == (second < count) for first, second in there]):
         return None
-    # Both kinds have as many leaves, and on the way back they have changed places.
+    # Now both kinds have as many leaves, and on the way back they have changed places.
     return sorted([tuple([leaf + count if leaf < count else leaf - count for leaf in link])[::-1] for link in there])

@@ -309,6 +309,19 @@ def random_program(rng, funs):
     return make(funs, [])
 
 
+def bad_sign_by_words(ends_of_forms, text):
+    """Return the field of BadSign for the text, or None for a written form.
+
+    The function returns, for a text and an index, the ends of all written forms that begin there, and whether one of
+    them goes on behind the text.
+    """
+    for end in range(1, len(text) + 1):
+        ends, open_end = ends_of_forms(text[:end], 0)
+        if not open_end and end not in ends:
+            return end - 1
+    return None if len(text) in ends_of_forms(text, 0)[0] else len(text)
+
+
 class Cases:
     """Assertions that several test cases share."""
 

@@ -144,7 +144,8 @@ class EditTests(unittest.TestCase, Cases):
         self.assertIsNone(desk.cut_tie("t"))
         self.assertIsNone(desk.remove_place("t"))
         self.assertEqual(((2, 4), ((1, 1, 0, 1),), ("a", "b2"), ("u",)), state_of(desk)[:4])
-        self.assertEqual("place a 2\nplace b2 4\nplace t 1\ntie t a:0 b2:3\ntie u b2:1 a:1\ncut t\nremove t", desk.journal)
+        self.assertEqual("place a 2\nplace b2 4\nplace t 1\ntie t a:0 b2:3\ntie u b2:1 a:1\ncut t\nremove t",
+                         desk.journal)
 
     def test_numbers_fall_behind_what_is_taken_away(self):
         desk = Desk()
@@ -164,7 +165,8 @@ class EditTests(unittest.TestCase, Cases):
 
     def test_names_without_a_valid_form(self):
         desk = ladder()
-        for name in ("", "A", "aB", "a b", " ", "a_b", "a-b", "a:b", "a\n", "abcdefghijklm", "\u00e4", "\u0663", "a'", "%",
+        for name in ("", "A", "aB", "a b", " ", "a_b", "a-b", "a:b", "a\n", "abcdefghijklm", "\u00e4", "\u0663", "a'",
+                     "%",
                      "1234567890123"):
             self.check_refused(desk, BadLabel, {"name": name}, "add_place", name, 9)
             self.check_refused(desk, BadLabel, {"name": name}, "add_tie", name, "x", 9, "y", 9)
@@ -449,9 +451,11 @@ class QuestionsTests(unittest.TestCase, Cases):
         self.assertEqual(("b",), desk.order)
 
 
-BAD_LINES = ("", " ", "place", "place a", "place a 2 3", "place  a 2", " place a 2", "place a 2 ", "place a  2", "place a 02",
+BAD_LINES = ("", " ", "place", "place a", "place a 2 3", "place  a 2", " place a 2", "place a 2 ", "place a  2",
+             "place a 02",
              "place a x", "place a -1", "place a +2", "place a 2.0", "place a 1234567890", "place a 00", "Place a 2",
-             "places a 2", "tie", "tie t", "tie t a:0", "tie t a:0 b:0 c:0", "tie t a b:0", "tie t a:0 b", "tie t a: b:0",
+             "places a 2", "tie", "tie t", "tie t a:0", "tie t a:0 b:0 c:0", "tie t a b:0", "tie t a:0 b",
+             "tie t a: b:0",
              "tie t a:0 b:", "tie t a:0 b:00", "tie t a:01 b:0", "tie t a:x b:0", "tie t a:0:0 b:0", "tie t a:0 b::0",
              "tie t a:0  b:0", "tie t a:-1 b:0", "tie t a;0 b:0", "tie t a:0 b:1234567890", "cut", "cut t u", "cut ",
              "cut  t", " cut t", "cut t ", "remove", "remove a b", "remove  a", "undo", "redo", "add a 2", "a", "2",
@@ -485,9 +489,12 @@ class JournalTests(unittest.TestCase, Cases):
                                     ("place abcdefghijklm 2", BadLabel, {"name": "abcdefghijklm"}),
                                     ("place b 9", NameTaken, {"name": "b"}), ("place d 0", BadSides, {"place": 3}),
                                     ("place d 5", BadSides, {"place": 3}), ("tie T a:0 b:0", BadLabel, {"name": "T"}),
-                                    ("tie t x:0 b:0", NameTaken, {"name": "t"}), ("tie v x:0 y:0", NoSuchName, {"name": "x"}),
-                                    ("tie v a:0 y:0", NoSuchName, {"name": "y"}), ("tie v :0 b:0", NoSuchName, {"name": ""}),
-                                    ("tie v a:0 :0", NoSuchName, {"name": ""}), ("tie v A:0 b:0", NoSuchName, {"name": "A"}),
+                                    ("tie t x:0 b:0", NameTaken, {"name": "t"}),
+                                    ("tie v x:0 y:0", NoSuchName, {"name": "x"}),
+                                    ("tie v a:0 y:0", NoSuchName, {"name": "y"}),
+                                    ("tie v :0 b:0", NoSuchName, {"name": ""}),
+                                    ("tie v a:0 :0", NoSuchName, {"name": ""}),
+                                    ("tie v A:0 b:0", NoSuchName, {"name": "A"}),
                                     ("tie v a:0 b:2", UnknownSide, {"place": 1, "side": 2}),
                                     ("tie v a:999999999 b:2", UnknownSide, {"place": 0, "side": 999999999}),
                                     ("cut v", NoSuchName, {"name": "v"}), ("cut A:0", NoSuchName, {"name": "A:0"}),

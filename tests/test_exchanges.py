@@ -76,7 +76,8 @@ class ExchangesTests(unittest.TestCase, Cases):
 
     def test_different_steps(self):
         for first, second in (([], STEPS[:1]), (STEPS[:1], []), (STEPS[:4], STEPS), (STEPS, STEPS[1:]),
-                              (STEPS[:2], STEPS[1:3]), ([("both", 0)], [("together", 0)]), ([("both", 0)], [("both", 1)]),
+                              (STEPS[:2], STEPS[1:3]), ([("both", 0)], [("together", 0)]),
+                              ([("both", 0)], [("both", 1)]),
                               ([("beside", 0, 1)], [("beside", 1, 0)])):
             self.assert_raises(NotSameSteps, {}, exchanges, first, second)
 
@@ -105,7 +106,8 @@ class OrdersTests(unittest.TestCase, Cases):
         self.assertEqual([[0, 1, 2], [1, 0, 2]], node_orders(split))
 
     def test_wirings_that_are_not_whole(self):
-        for wiring, sound in ((Wiring([(0, 1), (2, 3)], []), True), (Wiring([(0, 1), (2, 3)], [("together", 1, 2)]), True),
+        for wiring, sound in ((Wiring([(0, 1), (2, 3)], []), True),
+                              (Wiring([(0, 1), (2, 3)], [("together", 1, 2)]), True),
                               (Wiring([(0, 1)], [("both", 0, 1)]), False),
                               (Wiring([(0, 1), (2, 3)], [("both", 0, 1)]), False)):
             self.assertIs(sound, is_sound(wiring))

@@ -139,7 +139,8 @@ ERRORS = {
 
 # The fields of the errors that are not in errors.py; all others have none.
 FIELDS = {
-    "NotAJoint": "place", "NotShut": "place", "NeverOpened": "place", "BadCut": "cut", "Locked": "cut", "BadName": "name",
+    "NotAJoint": "place", "NotShut": "place", "NeverOpened": "place", "BadCut": "cut", "Locked": "cut",
+    "BadName": "name",
     "BadSign": "sign", "BoundTwice": "name", "UnknownName": "name", "UsedTwice": "name", "NotUsed": "name",
     "NotARedex": "position", "BadLabel": "name", "NameTaken": "name", "NoSuchName": "name", "StillTied": "name",
 }

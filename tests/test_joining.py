@@ -148,7 +148,8 @@ class LastStateTests(unittest.TestCase, Cases):
     def test_picks(self):
         # With the picks the cuts are worked off in different orders; each time four cuts are worked off.
         end = ((), ((4, 5), (6, 11), (8, 10)))
-        for picks in ([], [0], [1], [1, 2, 1], [-1, -1, -1, -1, -1], [10 ** 20, -10 ** 20, 7, 5, 3, 1, 1, 1, 1], (1, 1)):
+        for picks in ([], [0], [1], [1, 2, 1], [-1, -1, -1, -1, -1], [10 ** 20, -10 ** 20, 7, 5, 3, 1, 1, 1, 1],
+                      (1, 1)):
             self.assertEqual((end, 4), last_state(WIRING, [(12, 13), (7, 9)], picks))
         self.assertEqual((first_state(WIRING, []), 0), last_state(WIRING, [], [3, 4]))
 

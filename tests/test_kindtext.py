@@ -4,7 +4,7 @@ import itertools
 import random
 import unittest
 
-from helpers import Cases, random_shape
+from helpers import Cases, bad_sign_by_words, random_shape
 
 from comesapart.errors import TooLarge
 from comesapart.kinds import BadName, Kind
@@ -35,15 +35,6 @@ def ends_of_forms(text, at):
                 elif sign.startswith(there) and left + len(there) == len(text):
                     open_end = True
     return ends, open_end
-
-
-def bad_sign_by_words(text):
-    """Return the field of BadSign for the text, or None for a written form."""
-    for end in range(1, len(text) + 1):
-        ends, open_end = ends_of_forms(text[:end], 0)
-        if not open_end and end not in ends:
-            return end - 1
-    return None if len(text) in ends_of_forms(text, 0)[0] else len(text)
 
 
 class FormatTests(unittest.TestCase):
@@ -77,7 +68,7 @@ class ParseTests(unittest.TestCase, Cases):
                            (7, "(a & b) "), (7, "(a & b))"), (3, "(a + b)"), (4, "(a && b)"), (6, "(a & b| c)"),
                            (5, "(a | &)"), (13, "((a & b) | c))"), (12, "((a & b) | c ")):
             self.check_bad(sign, text)
-            self.assertEqual(sign, bad_sign_by_words(text))
+            self.assertEqual(sign, bad_sign_by_words(ends_of_forms, text))
 
     def test_other_signs(self):
         for other in ("\u00e4", "\u0430", "A", "_", "0", "\t", "-", "{", "`"):
@@ -99,7 +90,7 @@ class ParseTests(unittest.TestCase, Cases):
                 self.check_text("((a | b') " + "".join(middle))
 
     def check_text(self, text):
-        sign = bad_sign_by_words(text)
+        sign = bad_sign_by_words(ends_of_forms, text)
         if sign is None:
             self.assertEqual(text, format_kind(parse_kind(text)))
         else:

@@ -37,7 +37,9 @@ def moved_by_words(leaves, pairs, move):
     if (word, len(lists)) not in (("switch", 3), ("part", 2)):
         return None
     inside = [leaf for members in lists for leaf in members]
-    if [] in [list(members) for members in lists] or len(set(inside)) < len(inside) or not set(inside) <= set(range(leaves)):
+    if [] in [list(members) for members in lists] or len(set(inside)) < len(inside):
+        return None
+    if not set(inside) <= set(range(leaves)):
         return None
     if any(list(members) != sorted(members) for members in lists):
         return None
@@ -202,7 +204,8 @@ class AlongDerivationsTests(unittest.TestCase, Cases):
 
     def test_moves_lead_from_heap_pairs_to_both_pairs(self):
         wirings = [wiring for wiring in small_wirings(250, 70, most_nodes=9) if is_sound(wiring)]
-        wirings += [sound_wiring(seed, links, boths) for seed in range(6) for links, boths in ((8, 7), (12, 5), (40, 30))]
+        for links, boths in ((8, 7), (12, 5), (40, 30)):
+            wirings += [sound_wiring(seed, links, boths) for seed in range(6)]
         self.assertGreater(len(wirings), 80)
         for wiring in wirings:
             pairs = heap_pairs(wiring.links)

@@ -94,7 +94,8 @@ class PrincipalTests(unittest.TestCase):
             program = random_program(rng, 12)
             letters.add(len(self.check(program).letters))
         # The kind of the first name takes the kinds of the eleven others.
-        self.assertEqual(24, len(principal_kind(parse_program("[a [b [c [d [e [f [g [h [i [j [k [l (((((((((((a b) c) d) "
+        self.assertEqual(24,
+                         len(principal_kind(parse_program("[a [b [c [d [e [f [g [h [i [j [k [l (((((((((((a b) c) d) "
                                                               "e) f) g) h) i) j) k) l)]]]]]]]]]]]]")).letters))
         self.assertTrue(letters <= set(range(2, 25, 2)))
 

@@ -2,9 +2,10 @@
 
 import itertools
 import random
+import re
 import unittest
 
-from helpers import Cases, PLAIN, all_programs, random_program, small_programs
+from helpers import Cases, PLAIN, all_programs, bad_sign_by_words, random_program, small_programs
 
 from comesapart.errors import TooLarge
 from comesapart.kinds import BadName
@@ -69,15 +70,6 @@ def ends_of_forms(text, at):
     return ends, open_end
 
 
-def bad_sign_by_words(text):
-    """Return the field of BadSign for the text, or None for a written form."""
-    for end in range(1, len(text) + 1):
-        ends, open_end = ends_of_forms(text[:end], 0)
-        if not open_end and end not in ends:
-            return end - 1
-    return None if len(text) in ends_of_forms(text, 0)[0] else len(text)
-
-
 def changed_parts(program, made):
     """Yield the programs in which one part is replaced by one of the made ones."""
     yield from made
@@ -117,13 +109,16 @@ class CheckTests(unittest.TestCase, Cases):
 
     def test_each_error(self):
         for error, name, program in (
-                (BadName, "", ("fun", "", X)), (BadName, "X", ("name", "X")), (BadName, "abcdefghi", ("name", "abcdefghi")),
+                (BadName, "", ("fun", "", X)), (BadName, "X", ("name", "X")),
+                (BadName, "abcdefghi", ("name", "abcdefghi")),
                 (BadName, "x1", ("fun", "x1", ("name", "x1"))), (BadName, "a b", ("fun", "x", ("name", "a b"))),
                 (BoundTwice, "x", ("fun", "x", ("fun", "x", X))), (BoundTwice, "x", ("use", SAME, SAME)),
-                (BoundTwice, "x", ("use", SAME, ("fun", "x", Y))), (UnknownName, "x", X), (UnknownName, "y", ("fun", "x", Y)),
+                (BoundTwice, "x", ("use", SAME, ("fun", "x", Y))), (UnknownName, "x", X),
+                (UnknownName, "y", ("fun", "x", Y)),
                 (UnknownName, "x", ("use", SAME, X)), (UnknownName, "x", ("use", X, SAME)),
                 (UsedTwice, "x", ("fun", "x", ("use", X, X))), (NotUsed, "x", ("fun", "x", ("fun", "y", Y))),
-                (NotUsed, "y", ("fun", "x", ("fun", "y", X))), (NotUsed, "y", ("fun", "x", ("use", ("fun", "y", X), X)))):
+                (NotUsed, "y", ("fun", "x", ("fun", "y", X))),
+                (NotUsed, "y", ("fun", "x", ("use", ("fun", "y", X), X)))):
             self.assertEqual((error, name), self.check(program))
 
     def test_the_first_error_in_reading_order(self):
@@ -133,7 +128,8 @@ class CheckTests(unittest.TestCase, Cases):
                 (UsedTwice, "x", ("fun", "x", ("use", ("use", X, X), ("name", "")))),
                 (BoundTwice, "x", ("fun", "x", ("fun", "x", ("name", "")))),
                 (UnknownName, "y", ("fun", "x", ("use", Y, ("fun", "y", Y)))),
-                (NotUsed, "y", ("use", ("fun", "x", ("use", X, ("fun", "y", ("fun", "z", ("name", "z"))))), ("name", ""))),
+                (NotUsed, "y", ("use", ("fun", "x", ("use", X, ("fun", "y", ("fun", "z", ("name", "z"))))),
+                                ("name", ""))),
                 (UnknownName, "z", ("fun", "x", ("fun", "y", ("name", "z"))))):
             self.assertEqual((error, name), self.check(program))
 
@@ -206,14 +202,14 @@ class TextTests(unittest.TestCase, Cases):
             self.assertEqual(program, parse_program(format_program(program)))
 
     def test_bad_signs(self):
-        for sign, text in ((0, ""), (0, " "), (0, ")"), (0, "]"), (0, "X"), (0, "'"), (1, "["), (1, "[ x x]"), (1, "[]"),
-                           (1, "[("), (2, "[x"), (2, "[x]"), (2, "[x("), (3, "[x "), (3, "[x  x]"), (3, "[x ]"),
+        for sign, text in ((0, ""), (0, " "), (0, ")"), (0, "]"), (0, "X"), (0, "'"), (1, "["), (1, "[ x x]"),
+                           (1, "[]"), (1, "[("), (2, "[x"), (2, "[x]"), (2, "[x("), (3, "[x "), (3, "[x  x]"), (3, "[x ]"),
                            (4, "[x x"), (4, "[x x)"), (4, "[x x "), (4, "[x x x]"), (5, "[x x]]"), (5, "[x x] "),
                            (5, "[x x]x"), (1, "("), (1, "( x x)"), (1, "()"), (2, "(x"), (2, "(x)"), (2, "(x("),
                            (3, "(x "), (3, "(x )"), (4, "(x x"), (4, "(x x]"), (4, "(x x x)"), (5, "(x x)("), (1, "x'"),
                            (1, "x "), (1, "x(")):
             self.check_bad(sign, text)
-            self.assertEqual(sign, bad_sign_by_words(text))
+            self.assertEqual(sign, bad_sign_by_words(ends_of_forms, text))
 
     def test_all_texts_up_to_some_length(self):
         right = 0
@@ -230,7 +226,7 @@ class TextTests(unittest.TestCase, Cases):
                 self.check_text(text + other)
 
     def check_text(self, text):
-        sign = bad_sign_by_words(text)
+        sign = bad_sign_by_words(ends_of_forms, text)
         if sign is not None:
             self.check_bad(sign, text)
             return False
@@ -241,7 +237,8 @@ class TextTests(unittest.TestCase, Cases):
         return True
 
     def test_errors_of_check_program(self):
-        for error, name, text in ((UnknownName, "x", "x"), (UsedTwice, "x", "[x (x x)]"), (BoundTwice, "x", "([x x] [x x])"),
+        for error, name, text in ((UnknownName, "x", "x"), (UsedTwice, "x", "[x (x x)]"),
+                                  (BoundTwice, "x", "([x x] [x x])"),
                                   (NotUsed, "x", "[x [y y]]"), (BadName, "abcdefghi", "[abcdefghi abcdefghi]"),
                                   (BadName, "z" * 50, "[x (x " + "z" * 50 + ")]")):
             self.assert_raises(error, {"name": name}, parse_program, text)
@@ -306,12 +303,8 @@ class StepTests(unittest.TestCase, Cases):
                 self.assertIsNone(check_program(after))
                 _, (_, name, body), argument = part_at(program, position)
                 text, inner = format_program(body), format_program(argument)
-                # The name stands alone: behind an opening sign or a space, before a closing sign or a space.
-                places = [at for at in range(len(text)) if text[at:at + len(name)] == name
-                          and text[at - 1:at] in ("", "(", " ") and text[at + len(name):at + len(name) + 1] in ("", ")", " ", "]")
-                          and (text[at - 1:at] != "[")]
-                self.assertEqual(1, len(places))
-                put_in = text[:places[0]] + inner + text[places[0] + len(name):]
+                self.assertEqual(1, len(re.findall(rf"\b{name}\b", text)))
+                put_in = re.sub(rf"\b{name}\b", inner, text)
                 self.assertEqual(put_in, format_program(part_at(after, position)))
                 redex = format_program(part_at(program, position))
                 self.assertEqual(format_program(program).replace(redex, put_in), format_program(after))

@@ -221,7 +221,8 @@ class ApplicationTests(unittest.TestCase, Cases):
         self.assertEqual(sorted(sorted(pair) for pair in pairs), sorted(sorted(link) for link in links))
         letters = [letter for kind in row for letter in kind.letters]
         for first, second in links:
-            self.assertEqual((letters[second][0], True, False), (letters[first][0], letters[first][1], letters[second][1]))
+            self.assertEqual((letters[second][0], True, False),
+                             (letters[first][0], letters[first][1], letters[second][1]))
         self.assertEqual((sum(counts) + counts[0] - 2, sum(counts) + 2 * counts[0] - 3), cut)
         self.assertIs(tuple, cut.__class__)
         if len(links) <= 40:
@@ -231,14 +232,16 @@ class ApplicationTests(unittest.TestCase, Cases):
                              [list(range(counts[0])), list(range(counts[0], 2 * counts[0]))])
             # Joining gives the forced links of the kind of the use, from which its normal program is read.
             forced = sorted(tuple(sorted(link)) for link in forced_links(result))
-            self.assertEqual(Wiring(forced, wiring_of_kinds([result], forced_links(result)).nodes), joined(wiring, [cut]))
+            self.assertEqual(Wiring(forced, wiring_of_kinds([result], forced_links(result)).nodes),
+                             joined(wiring, [cut]))
             self.assertTrue(is_whole(joined(wiring, [cut])))
         self.assertEqual(plainly_named(worked(use, [])[0]), program_of_kind(result))
         return len(links)
 
     def test_an_ordinary_application(self):
         row, links, cut = application(parse_program("[f [x (f x)]]"), parse_program("[y y]"))
-        self.assertEqual(["((a & a') | (a' | a))", "((a' | a) & (a & a'))", "(a' | a)"], [format_kind(kind) for kind in row])
+        self.assertEqual(["((a & a') | (a' | a))", "((a' | a) & (a & a'))", "(a' | a)"],
+                         [format_kind(kind) for kind in row])
         self.assertEqual([(0, 2), (3, 1), (5, 4), (6, 8), (9, 7)], links)
         self.assertEqual((12, 15), cut)
 
@@ -276,7 +279,8 @@ class ApplicationTests(unittest.TestCase, Cases):
 
     def test_more_than_40_links(self):
         for text, links in (("[fa (fa [fb fb])] [ga (ga [gb [gc [gd [ge ((gd gb) (gc ge))]]]])]", 36),
-                            ("[fa ((fa [fb [fc [fd [fe [ff [fg ((fg ff) (((fe fb) fc) fd))]]]]]]) [fh fh])] [ga ga]", 46)):
+                            ("[fa ((fa [fb [fc [fd [fe [ff [fg ((fg ff) (((fe fb) fc) fd))]]]]]]) [fh fh])] [ga ga]",
+                             46)):
             _, function, argument = parse_program("(" + text + ")")
             self.assertEqual(links, self.check(function, argument))
 

@@ -248,7 +248,8 @@ class StandingsTests(unittest.TestCase, Cases):
         self.assertEqual(720, len(found))
         self.assertIs("whole" in [word for _, word in found], can_stand_for(SIX, ~SIX))
         for function in (standings, can_stand_for, there_and_back):
-            for one, other in ((SIX, SEVEN), (SEVEN, SIX), (SIX & SIX, A), (A, SIX & SIX), (SEVEN, SEVEN), (SIX, SIX & A)):
+            for one, other in ((SIX, SEVEN), (SEVEN, SIX), (SIX & SIX, A), (A, SIX & SIX), (SEVEN, SEVEN),
+                               (SIX, SIX & A)):
                 self.assert_raises(TooLarge, {"limit": 12}, function, one, other)
         self.assert_raises(TooLarge, {"limit": 12}, can_stand_for, SEVEN, SIX, beside=True)
 

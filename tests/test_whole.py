@@ -1,4 +1,4 @@
-"""Point 1: one web, one paired web, one wiring and one program, carried through all views that the document connects."""
+"""Point 1: a web, a paired web, a wiring and a program, carried through all views that the document connects."""
 
 import random
 import unittest
@@ -77,7 +77,8 @@ class WholeTests(unittest.TestCase):
         self.assertIs(apart, knot(web + Web([2], [])) == [])
         places, ties = on_cycles(web)
         self.assertEqual((apart, apart), (places == [], ties == []))
-        self.assertEqual(places, [place for place in range(len(web.sides)) if cycle_through_place(web, place)[0] == "cycle"])
+        self.assertEqual(places,
+                         [place for place in range(len(web.sides)) if cycle_through_place(web, place)[0] == "cycle"])
         self.assertEqual(ties, [tie for tie in range(len(web.ties)) if cycle_through_tie(web, tie)[0] == "cycle"])
         if len(web.joints) <= 10:
             self.assertLess(0, count_orders(web))
