@@ -122,6 +122,11 @@ class OperatorTests(unittest.TestCase, Cases):
         self.assertEqual(("together", not_a, b), (A >> B).shape)
         self.assertEqual(("both", not_a, ("together", ("letter", "b", False), a)), (~(A | (B & ~A))).shape)
 
+    def test_other_values(self):
+        for act in (lambda one, other: one & other, lambda one, other: one | other, lambda one, other: one >> other):
+            self.assertRaises(TypeError, act, A, "a")
+            self.assertRaises(TypeError, act, A, A.shape)
+
     def test_a_kind_never_changes(self):
         kind = A & ~B
         shape, letters = kind.shape, kind.letters
